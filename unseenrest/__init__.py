@@ -1,0 +1,1 @@
+"""Unseenrest: scripts that change an independence structure nobody has seen."""
