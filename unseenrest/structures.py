@@ -84,7 +84,7 @@ class Structure:
             raise UnlikeNames()
         drops = [above - below for above, below in zip(other._table, self._table)]
         # If no single element more makes the difference less, no larger set does.
-        return all([drops[at ^ bit] <= drops[at] for at in range(len(drops)) for bit in _bits(at)])
+        return all([drops[at ^ bit] <= drops[at] for at in range(len(drops)) for bit in single_bits(at)])
 
     @staticmethod
     def free(names):
@@ -111,8 +111,8 @@ class Structure:
             return NotImplemented
         _check_sum(self, other)
         names = tuple(sorted(self._names + other._names))
-        ours = self._parts(names, 0, other._unseen)
-        theirs = other._parts(names, self._unseen, 0)
+        ours = parts_of_sets(self, names, 0, other._unseen)
+        theirs = parts_of_sets(other, names, self._unseen, 0)
         table = [self._table[one] + other._table[two] for one, two in zip(ours, theirs)]
         return known_structure(names, table, self._unseen + other._unseen)
 
@@ -164,15 +164,6 @@ class Structure:
             index = index | bit
         return index
 
-    def _parts(self, names, before, after):
-        """By the indexes of the sets of a sum, the indexes of their parts in this structure.
-
-        The sum has these names, and so many foreign unseen elements before and after the own ones.
-        """
-        named = [1 << self._names.index(name) if name in self._names else 0 for name in names]
-        unseen = [1 << (len(self._names) + mark) for mark in range(self._unseen)]
-        return sums_of_sets(named + [0] * before + unseen + [0] * after)
-
 
 def structures(names):
     """All structures with these names and without unseen elements, ascending by their tables."""
@@ -191,6 +182,17 @@ def known_structure(names, table, unseen):
     return made
 
 
+def parts_of_sets(structure, names, before, after):
+    """By the indexes of the sets of a new structure, the indexes of their parts in an old one.
+
+    The new one has these names and, before and after the unseen elements of the old one, so many others.
+    """
+    known = structure.names()
+    named = [1 << known.index(name) if name in known else 0 for name in names]
+    unseen = [1 << (len(known) + mark) for mark in range(structure.unseen)]
+    return sums_of_sets(named + [0] * before + unseen + [0] * after)
+
+
 def sums_of_sets(amounts):
     """By the indexes of all sets of positions, the sums of the amounts at these positions."""
     sums = [0]
@@ -199,7 +201,7 @@ def sums_of_sets(amounts):
     return sums
 
 
-def _bits(index):
+def single_bits(index):
     """The indexes of the single elements of a set."""
     return [1 << at for at in range(index.bit_length()) if (index >> at) & 1]
 
@@ -219,7 +221,7 @@ def _fits(table, at):
         return False
     if at == 0:
         return rank == 0
-    bits = _bits(at)
+    bits = single_bits(at)
     if not all([table[at ^ bit] in (rank - 1, rank) for bit in bits]):
         return False
     # As each element adds 0 or 1, and the subsets go together, the sums of two sets can fail in one way only:
