@@ -1,6 +1,9 @@
 """Steps, tests and texts to try things on: right ones, wrong ones and drawn ones."""
 
-from brute import ODD_VALUES
+import re
+from itertools import combinations
+
+from brute import ODD_VALUES, exchanges
 
 GROUPS = [(), ("a",), ("b",), ("a", "b"), ("a", "b", "zzzz"), ("a", "b", "c", "d", "e", "f", "g")]
 BASES = [
@@ -11,8 +14,8 @@ BASES = [
 NO_BASES = [
     (value, 0) for value in ODD_VALUES if not (isinstance(value, tuple) and value)
 ] + [
-    ((("a",), ["b"]), 1), (((), ((),)), 1), ((0,), 0), (["a"], 0), ([("a",)], 0), ("ab", 0), (("a",), 0), (("a", "b"), 0), ((("b", "a"),), 0),
-    ((("a", "a"),), 0), ((("A",),), 0), ((("a", 1),), 0), (((), ("a",)), 1), ((("a",), ()), 1), ((("a",), ("a",)), 1),
+    ((("a",), ["b"]), 1), (((), ((),)), 1), ((0,), 0), (["a"], 0), ([("a",)], 0), ("ab", 0), (("a",), 0), (("a", "b"), 0),
+    ((("b", "a"),), 0), ((("a", "a"),), 0), ((("A",),), 0), ((("a", 1),), 0), (((), ("a",)), 1), ((("a",), ()), 1), ((("a",), ("a",)), 1),
     (((), ()), 1), ((("a",), ("b",), ("a", "b"), None), 2), ((("a",), ("b",), ("b",), ("c", "d")), 2),
     ((("a",), None, ("a",)), 1), ((("a", "b"), ("c", "d")), 2), ((("a", "b"), ("a", "c"), ("a", "d"), ("b", "c")), 4),
     ((("a", "b", "c"), ("d", "e", "f")), 2), ((("a", "b", "c", "d", "e", "f", "g"),), 1),
@@ -103,3 +106,122 @@ def drawn_step(random, depth):
 
 def drawn_steps(random, depth):
     return tuple(drawn_step(random, depth) for _ in range(random.choice([0, 1, 1, 2, 3])))
+
+
+def is_word(value, most):
+    return isinstance(value, str) and re.fullmatch("[a-z]{1,%d}" % most, value) is not None
+
+
+def is_names(value):
+    return isinstance(value, tuple) and all(is_word(name, 4) for name in value) and list(value) == sorted(set(value))
+
+
+def is_digit(value, least, most):
+    return type(value) is int and least <= value <= most
+
+
+def is_family(value):
+    """Whether a value is bases, by point 5."""
+    if not isinstance(value, tuple) or not value or not all(is_names(group) for group in value):
+        return False
+    if len({len(group) for group in value}) > 1 or len(set(value)) < len(value):
+        return False
+    names = {name for group in value for name in group}
+    return len(names) <= 6 and exchanges([frozenset(group) for group in value])
+
+
+FORMS = {
+    "delete": [lambda e: is_word(e, 4)], "contract": [lambda e: is_word(e, 4)], "dual": [], "cut": [],
+    "extend": [lambda p: is_word(p, 4), is_names], "top": [lambda p: is_word(p, 4)], "truncate": [is_names],
+    "unite": [is_family], "rename": [lambda e: is_word(e, 4), lambda p: is_word(p, 4)],
+    "if": [lambda test: is_question(test), lambda one: isinstance(one, tuple), lambda other: isinstance(other, tuple)],
+    "repeat": [lambda n: is_digit(n, 1, 4), lambda steps: isinstance(steps, tuple)], "use": [lambda x: is_word(x, 6)],
+}
+QUESTIONS = {
+    "rank": [is_names, lambda k: is_digit(k, 0, 6)], "spans": [is_names, lambda e: is_word(e, 4)], "whole": [],
+}
+
+
+def fits(value, forms):
+    if not isinstance(value, tuple) or not value or not isinstance(value[0], str) or value[0] not in forms:
+        return False
+    checks = forms[value[0]]
+    return len(value) == len(checks) + 1 and all(check(item) for check, item in zip(checks, value[1:]))
+
+
+def is_question(value):
+    """Whether a value is a test, by point 7."""
+    return fits(value, QUESTIONS)
+
+
+def is_form(value):
+    """Whether a value is of the form of a step, by point 7."""
+    return fits(value, FORMS)
+
+
+def fitting_group(random, names):
+    return tuple(sorted(random.sample(sorted(names), random.randrange(min(3, len(names)) + 1))))
+
+
+def fitting_test(random, names):
+    kinds = [("rank", fitting_group(random, names), random.randrange(4)), ("whole",)]
+    if names:
+        kinds += [("spans", fitting_group(random, names), random.choice(sorted(names)))] * 2
+    return random.choice(kinds)
+
+
+def fitting_bases(random, names):
+    names = sorted(names)
+    size = random.randrange(min(2, len(names)) + 1)
+    chosen = sorted(random.sample(names, random.randrange(size, min(4, len(names)) + 1)))
+    return tuple(random.sample(list(combinations(chosen, size)), len(list(combinations(chosen, size)))))
+
+
+def fitting_single(random, names, turns):
+    """A single step for structures with these names, and the names behind it."""
+    kinds = [("truncate", fitting_group(random, names)), ("unite", fitting_bases(random, names)), ("cut",)]
+    if turns:
+        kinds += [("dual",)] * 2
+    free = [name for name in ("a", "b", "c", "d", "p", "q", "r") if name not in names]
+    if len(names) < 6:
+        kinds += [("top", random.choice(free))] + [("extend", random.choice(free), fitting_group(random, names))] * 3
+    if names:
+        name = random.choice(sorted(names))
+        kinds += [("delete", name), ("contract", name), ("rename", name, random.choice(free + [name]))]
+    step = random.choice(kinds)
+    lost = {step[1]} if step[0] in ("delete", "contract", "rename") else set()
+    made = {step[1]} if step[0] in ("extend", "top") else {step[2]} if step[0] == "rename" else set()
+    return step, (set(names) - lost) | made
+
+
+def keeping_steps(random, names, depth, turns):
+    """Steps that end with the names with which they begin."""
+    steps = ()
+    for _ in range(random.choice([0, 1, 1, 2])):
+        step, ends = fitting_step(random, names, depth, turns)
+        if ends == set(names):
+            steps += (step,)
+    return steps
+
+
+def fitting_step(random, names, depth, turns):
+    """A step for structures with these names, and the names behind it; its steps stand up to so deep."""
+    kind = random.choice(["single", "single", "if", "repeat"]) if depth > 1 else "single"
+    if kind == "repeat":
+        return ("repeat", random.choice([1, 1, 2, 2, 3]), keeping_steps(random, names, depth - 1, turns)), set(names)
+    if kind == "if":
+        first, second = (keeping_steps(random, names, depth - 1, False) for _ in range(2))
+        both, ends = fitting_single(random, names, False)
+        if random.choice([True, False]):
+            return ("if", fitting_test(random, names), first + (both,), second + (both,)), ends
+        return ("if", fitting_test(random, names), first, second), set(names)
+    return fitting_single(random, names, turns)
+
+
+def fitting_steps(random, names, many, depth=4):
+    """Steps for structures with these names; most of these make a script."""
+    steps = ()
+    for _ in range(many):
+        step, names = fitting_step(random, names, depth, True)
+        steps += (step,)
+    return steps

@@ -82,7 +82,7 @@ class TestByDefinition(Base):
         drawn = random.Random(2)
         for structure in tried():
             names = structure.names()
-            fitting = [bases for bases in self.bases_on(names, drawn) if set(name for base in bases for name in base) <= set(names)]
+            fitting = self.bases_on(names, drawn)
             many = 1 if len(names) + structure.unseen > 10 else len(fitting)
             for bases in drawn.sample(fitting, min(many, 12)):
                 self.check_same(united(structure, bases), changing.united(ranks_of(structure), bases), structure.unseen)

@@ -16,6 +16,22 @@ TEXTS = """
 Traceback (most recent call last):
 unseenrest.errors.InvalidText: 1
 """
+RUNNING = """
+>>> from unseenrest.running import run
+>>> from unseenrest.scripts import Script
+>>> from unseenrest.structures import Structure
+>>> script = Script.read(['a'], 'extend p a ; if rank 2 a p ( delete a ) else ( delete p ; rename a p )')
+>>> [script.ends(), script.cuts, len(script), run(script, Structure.free(['a'])).table()]
+[['p'], (0, 0), 2, [0, 1]]
+"""
+FRAMES = """
+>>> from unseenrest.frames import Frame, frame_of, frames
+>>> from unseenrest.structures import Structure
+>>> one, none = Structure.free(['a']), Structure.uniform(['a'], 0)
+>>> frame = Frame(one, one, none, gaps=(1, 0), spares=(0, 1))
+>>> [frame.unseen, frame.marked, frame.built().full, frame_of(frame.built(), 0) == frame, len(list(frames(['a'])))]
+[3, 1, 2, True, 4]
+"""
 README = os.path.join(os.path.dirname(os.path.abspath(__file__)), "..", "README.md")
 
 
@@ -34,6 +50,12 @@ class TestExamples(unittest.TestCase):
 
     def test_point_twenty_one(self):
         self.check(TEXTS, "texts")
+
+    def test_the_section_on_running(self):
+        self.check(RUNNING, "running")
+
+    def test_the_section_on_frames(self):
+        self.check(FRAMES, "frames")
 
     def test_the_readme(self):
         with open(README, encoding="utf-8") as file:

@@ -31,6 +31,8 @@ BARRED_WORDS = set(
 BARRED_NODES = (ast.Global, ast.AsyncFunctionDef, ast.AsyncFor, ast.AsyncWith, ast.Await, ast.Div)
 # In a package whose classes compare, these take lists alone.
 LISTED_ONLY = ("any", "all", "min", "max", "sum", "sorted")
+# The methods of builtin values that the rules allow and the files use.
+METHODS = set("append extend index items join pop split bit_length".split())
 MODULE_LEVEL = (ast.Import, ast.ImportFrom, ast.FunctionDef, ast.ClassDef, ast.Assign)
 
 
@@ -87,7 +89,9 @@ class TestLanguage(unittest.TestCase):
     def test_names(self):
         for name, node in self.nodes():
             if isinstance(node, ast.Name):
-                self.assertTrue(node.id in BUILTINS or not hasattr(builtins, node.id), f"{name}: {node.id}")
+                # A doctest binds the name _ among the builtins.
+                allowed = node.id in BUILTINS or node.id == "_" or not hasattr(builtins, node.id)
+                self.assertTrue(allowed, f"{name}: {node.id}")
                 if isinstance(node.ctx, ast.Store):
                     self.assertNotIn(node.id, BUILTINS)
             for word in (getattr(node, key, None) for key in ("id", "attr", "arg", "name")):
@@ -103,6 +107,72 @@ class TestLanguage(unittest.TestCase):
             if isinstance(node, ast.Call) and isinstance(node.func, ast.Name) and node.func.id in LISTED_ONLY:
                 for one in node.args:
                     self.assertNotIsInstance(one, ast.GeneratorExp, name)
+
+    def test_stars_stand_before_names_and_attributes(self):
+        for name, node in self.nodes():
+            if isinstance(node, ast.Call):
+                for one in node.args:
+                    if isinstance(one, ast.Starred):
+                        self.assertIsInstance(one.value, (ast.Name, ast.Attribute), name)
+
+    def test_is_stands_beside_constants(self):
+        for name, node in self.nodes():
+            if isinstance(node, ast.Compare) and isinstance(node.ops[0], (ast.Is, ast.IsNot)):
+                self.assertIsInstance(node.comparators[0], ast.Constant, name)
+
+    def test_no_variable_has_the_name_of_an_import_or_a_class(self):
+        for name, text in sources():
+            tree = ast.parse(text)
+            taken = {one.name for node in ast.walk(tree) if isinstance(node, ast.ImportFrom) for one in node.names}
+            taken |= {node.name for node in ast.walk(tree) if isinstance(node, ast.ClassDef)}
+            for node in ast.walk(tree):
+                if isinstance(node, ast.Name) and isinstance(node.ctx, ast.Store):
+                    self.assertNotIn(node.id, taken, name)
+                if isinstance(node, ast.arg):
+                    self.assertNotIn(node.arg, taken, name)
+
+    def test_imports_name_the_file_that_defines_the_name(self):
+        trees = {name[:-3]: ast.parse(text) for name, text in sources()}
+        made = {name: {line for node in tree.body for line in self.bound(node)} for name, tree in trees.items()}
+        seen = {name: set() for name in trees}
+        for name, tree in trees.items():
+            for node in ast.walk(tree):
+                if isinstance(node, ast.ImportFrom) and node.module.startswith("unseenrest."):
+                    source = node.module.split(".")[1]
+                    seen[name].add(source)
+                    for one in node.names:
+                        self.assertIn(one.name, made[source], name)
+        while seen:
+            free = [name for name in seen if not seen[name] & set(seen)]
+            self.assertTrue(free, f"these import from each other: {sorted(seen)}")
+            seen = {name: seen[name] for name in seen if name not in free}
+
+    def bound(self, node):
+        """The names that a statement at module level defines."""
+        if isinstance(node, (ast.FunctionDef, ast.ClassDef)):
+            return [node.name]
+        return [one.id for one in node.targets] if isinstance(node, ast.Assign) else []
+
+    def test_methods_that_are_called(self):
+        own = {node.name for name, node in self.nodes() if isinstance(node, ast.FunctionDef)}
+        for name, node in self.nodes():
+            if isinstance(node, ast.Call) and isinstance(node.func, ast.Attribute):
+                self.assertIn(node.func.attr, own | METHODS, name)
+
+    def test_generators_are_iterated_at_once(self):
+        made = {
+            node.name for name, node in self.nodes() if isinstance(node, ast.FunctionDef)
+            and any(isinstance(inner, (ast.Yield, ast.YieldFrom)) for inner in ast.walk(node))
+        }
+        allowed = set()
+        for name, node in self.nodes():
+            if isinstance(node, (ast.For, ast.comprehension)):
+                allowed.add(ast.unparse(node.iter))
+            if isinstance(node, ast.Call) and isinstance(node.func, ast.Name) and node.func.id in ("list", "tuple"):
+                allowed.add(ast.unparse(node.args[0]))
+        for name, node in self.nodes():
+            if isinstance(node, ast.Call) and isinstance(node.func, ast.Name) and node.func.id in made:
+                self.assertIn(ast.unparse(node), allowed, name)
 
     def test_decorators(self):
         for name, node in self.nodes():

@@ -148,7 +148,8 @@ class TestReadSteps(Base):
             text = text_of(steps)
             self.assertEqual(repr(read_steps(text)), repr(steps))
             seen.update(text.split(" "))
-        for word in "delete contract dual extend top truncate cut unite rename if repeat use rank spans whole else ;".split():
+        words = "delete contract dual extend top truncate cut unite rename if repeat use rank spans whole else ;"
+        for word in words.split():
             self.assertIn(word, seen)
 
     def test_the_text_without_steps(self):
@@ -267,7 +268,8 @@ class TestBrackets(Base):
 
 class TestExamples(Base):
     def test_those_of_the_document(self):
-        self.assertEqual(read_steps("truncate a b ; repeat 2 ( cut )"), (("truncate", ("a", "b")), ("repeat", 2, (("cut",),))))
+        expected = (("truncate", ("a", "b")), ("repeat", 2, (("cut",),)))
+        self.assertEqual(read_steps("truncate a b ; repeat 2 ( cut )"), expected)
         self.check_wrong("cut cut", 1)
 
 

@@ -1,7 +1,7 @@
 """Structures that are told by their bases or by columns of numbers."""
 
 from unseenrest.errors import InvalidBases, InvalidName, InvalidNumber, TooMany, UnknownName
-from unseenrest.names import checked_names, is_group, is_name, is_number
+from unseenrest.names import checked_names, is_group, is_name
 from unseenrest.structures import MOST_NAMES, MOST_UNSEEN, Structure, known_structure, single_bits, sums_of_sets
 
 MODULI = (2, 3, 5, 7)
@@ -33,11 +33,11 @@ def from_columns(columns, *, modulus=2, unseen=()):
         raise TooMany("unseen", MOST_UNSEEN)
     if len(columns) + len(unseen) > Structure.MOST:
         raise TooMany("elements", Structure.MOST)
-    if not is_number(modulus, 2, 7) or modulus not in MODULI:
+    if modulus not in MODULI:
         raise InvalidNumber(modulus)
     names = tuple(sorted(columns))
-    rows = [columns[name] for name in names] + list(unseen)
-    return known_structure(names, _ranks_of_columns(rows, modulus), len(unseen))
+    ordered = [columns[name] for name in names] + list(unseen)
+    return known_structure(names, _ranks_of_columns(ordered, modulus), len(unseen))
 
 
 def check_bases(value):
