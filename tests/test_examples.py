@@ -32,6 +32,14 @@ FRAMES = """
 >>> [frame.unseen, frame.marked, frame.built().full, frame_of(frame.built(), 0) == frame, len(list(frames(['a'])))]
 [3, 1, 2, True, 4]
 """
+COMPARING = """
+>>> from unseenrest.comparing import compare, fewest
+>>> from unseenrest.scripts import Script
+>>> one, other = Script.read(['a'], 'top p ; delete a'), Script.read(['a'], 'extend p a ; delete a')
+>>> paper = compare(one, other)
+>>> [paper.told(), paper.frame.gaps, paper.group, paper.ranks(), fewest(one, other), fewest(one, one)]
+['parted', (1, 1), ('p',), (1, 0), 1, None]
+"""
 README = os.path.join(os.path.dirname(os.path.abspath(__file__)), "..", "README.md")
 
 
@@ -56,6 +64,9 @@ class TestExamples(unittest.TestCase):
 
     def test_the_section_on_frames(self):
         self.check(FRAMES, "frames")
+
+    def test_the_section_on_comparing(self):
+        self.check(COMPARING, "comparing")
 
     def test_the_readme(self):
         with open(README, encoding="utf-8") as file:

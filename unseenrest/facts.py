@@ -2,23 +2,34 @@
 
 from unseenrest.errors import InvalidFact
 from unseenrest.forms import MOST_RANK
-from unseenrest.frames import frames, led
+from unseenrest.frames import frames, led_by
 from unseenrest.names import is_group, is_number
 
 
 def keeps(structure, facts):
     """Whether a structure keeps all of the facts."""
     check_facts(structure.names(), facts)
-    return all([_is_kept(structure, fact) for fact in facts])
+    return _are_kept(structure, facts)
 
 
 def fact_rows(script, *, facts=(), gap=0, spare=0):
     """The pairs of each frame that keeps the facts and the one to which the script leads it, in order."""
     names = script.names()
     check_facts(names, facts)
-    return [
-        (frame, led(script, frame)) for frame in frames(names, gap=gap, spare=spare) if keeps(frame.first, facts)
-    ]
+    seen = {}
+    return [(frame, led_by(script, frame, seen)) for frame in kept_frames(names, facts, gap, spare)]
+
+
+def kept_frames(names, facts, gap, spare):
+    """All frames with these names that keep right facts and have gaps and spares up to these, in order."""
+    kept = {}
+    for frame in frames(names, gap=gap, spare=spare):
+        # Many frames have the same first structure, on which alone the facts hang.
+        key = tuple(frame.first.table())
+        if key not in kept:
+            kept[key] = _are_kept(frame.first, facts)
+        if kept[key]:
+            yield frame
 
 
 def check_facts(names, facts):
@@ -26,16 +37,21 @@ def check_facts(names, facts):
     if not isinstance(facts, (list, tuple)):
         raise InvalidFact(0)
     for at, value in enumerate(facts):
-        if not _is_fact(value, names):
+        if not is_fact(value, names):
             raise InvalidFact(at)
 
 
-def _is_fact(value, names):
+def is_fact(value, names):
+    """Whether any value is a fact with these names."""
     if not isinstance(value, tuple) or len(value) != 3 or value[0] not in ("least", "most"):
         return False
     if not is_group(value[1]) or not is_number(value[2], 0, MOST_RANK):
         return False
     return all([name in names for name in value[1]])
+
+
+def _are_kept(structure, facts):
+    return all([_is_kept(structure, fact) for fact in facts])
 
 
 def _is_kept(structure, fact):

@@ -1,6 +1,6 @@
 """Frames: all that a script can tell of a structure and of a marked set of its unseen elements."""
 
-from unseenrest.changes import changed, cut, topped
+from unseenrest.changes import changed
 from unseenrest.errors import InvalidFrame, InvalidNumber, InvalidStep, TooMany, UnlikeNames
 from unseenrest.forms import is_single
 from unseenrest.names import is_number, names_shown
@@ -77,14 +77,7 @@ class Frame:
         """The frame behind a step other than if, repeat and use."""
         if not is_single(step):
             raise InvalidStep(())
-        if step[0] == "dual":
-            gaps, spares = self._gaps[::-1], self._spares[::-1]
-            return _known_frame(~self._last, ~self._middle, ~self._first, spares, gaps)
-        if step[0] == "top":
-            return _topped(self, step[1])
-        if step[0] == "cut":
-            return _cut(self)
-        return _changed(self, step)
+        return _after(self, step, {})
 
     def __eq__(self, other):
         return (
@@ -126,17 +119,29 @@ def led(script, frame):
     """The frame behind the script."""
     if not isinstance(frame, Frame) or frame.names() != script.names():
         raise UnlikeNames()
+    return led_by(script, frame, {})
+
+
+def led_by(script, frame, seen):
+    """The frame behind the script, for a frame with its names; seen keeps what steps have made of structures."""
     now = frame
     todo = list(script.plain()[::-1])
     while todo:
         step = todo.pop()
         if step[0] == "if":
-            todo.extend(chosen_steps(step, _holds_at(now, step[1]))[::-1])
+            todo.extend(chosen_steps(step, holds_at(now, step[1]))[::-1])
         elif step[0] == "repeat":
             todo.extend(repeated_steps(step)[::-1])
         else:
-            now = now.after(step)
+            now = _after(now, step, seen)
     return now
+
+
+def holds_at(frame, test):
+    """Whether a test holds in the structures with this frame."""
+    if test[0] == "whole":
+        return frame.gaps[0] == 0
+    return holds_in(frame.first, test)
 
 
 def _known_frame(first, middle, last, gaps, spares):
@@ -220,11 +225,17 @@ def _counts(rest, gap, spare):
     ]
 
 
-def _changed(frame, step):
-    """The frame behind a step that changes each of its structures by itself."""
+def _after(frame, step, seen):
+    """The frame behind a step other than if, repeat and use; seen keeps what steps have made of structures."""
+    if step[0] == "top":
+        return _topped(frame, step, seen)
+    if step[0] == "cut":
+        return _cut(frame, step, seen)
     old = (frame.first, frame.middle, frame.last)
-    new = [changed(kind, step) for kind in old]
-    growth = [behind.full - before.full for before, behind in zip(old, new)]
+    first, middle, last = [_made(kind, step, seen) for kind in old]
+    if step[0] == "dual":
+        return _known_frame(last, middle, first, frame.spares[::-1], frame.gaps[::-1])
+    growth = (first.full - old[0].full, middle.full - old[1].full, last.full - old[2].full)
     gaps, spares = frame.gaps, frame.spares
     if step[0] in ("delete", "unite"):
         # A bridge that is deleted is a growth by less than 0.
@@ -232,42 +243,52 @@ def _changed(frame, step):
     if step[0] in ("contract", "truncate"):
         # The full rank falls by 1 exactly if the element or the group has a rank above 0.
         spares = (spares[0] + growth[1] - growth[0], spares[1] + growth[2] - growth[0])
-    return _known_frame(new[0], new[1], new[2], gaps, spares)
+    return _known_frame(first, middle, last, gaps, spares)
 
 
-def _topped(frame, name):
+def _made(kind, step, seen):
+    """What a step makes of a structure."""
+    # The frames of a few names have few structures in all, and each step meets the same ones again and again.
+    key = (step, tuple(kind.names()), tuple(kind.table()))
+    if key not in seen:
+        seen[key] = changed(kind, step)
+    return seen[key]
+
+
+def _bridged(kind, name, seen):
+    """A structure with a new element, which is a bridge."""
+    key = (name, tuple(kind.names()), tuple(kind.table()))
+    if key not in seen:
+        seen[key] = kind + Structure.free([name])
+    return seen[key]
+
+
+def _topped(frame, step, seen):
     """The frame behind a step top."""
-    first, one = _topped_kind(frame.first, frame.gaps[0], name)
-    middle, other = _topped_kind(frame.middle, frame.gaps[1], name)
-    return _known_frame(first, middle, topped(frame.last, name), (one, other), frame.spares)
+    first, one = _topped_kind(frame.first, frame.gaps[0], step, seen)
+    middle, other = _topped_kind(frame.middle, frame.gaps[1], step, seen)
+    return _known_frame(first, middle, _made(frame.last, step, seen), (one, other), frame.spares)
 
 
-def _topped_kind(kind, gap, name):
+def _topped_kind(kind, gap, step, seen):
     """What a step top makes of a structure of a frame and of its gap."""
     if gap > 0:
-        return kind + Structure.free([name]), gap - 1
-    return topped(kind, name), 0
+        return _bridged(kind, step[1], seen), gap - 1
+    return _made(kind, step, seen), 0
 
 
-def _cut(frame):
+def _cut(frame, step, seen):
     """The frame behind a step cut."""
-    first, one = _cut_kind(frame.first, frame.gaps[0])
-    middle, other = _cut_kind(frame.middle, frame.gaps[1])
+    first, one = _cut_kind(frame.first, frame.gaps[0], step, seen)
+    middle, other = _cut_kind(frame.middle, frame.gaps[1], step, seen)
     loss = min(1, frame.gaps[0] + frame.first.full)
     less = frame.spares[0] + loss - min(1, frame.gaps[1] + frame.middle.full)
     more = frame.spares[1] + loss - min(1, frame.last.full)
-    return _known_frame(first, middle, cut(frame.last), (one, other), (less, more))
+    return _known_frame(first, middle, _made(frame.last, step, seen), (one, other), (less, more))
 
 
-def _cut_kind(kind, gap):
+def _cut_kind(kind, gap, step, seen):
     """What a step cut makes of a structure of a frame and of its gap."""
     if gap > 0:
         return kind, gap - 1
-    return cut(kind), 0
-
-
-def _holds_at(frame, test):
-    """Whether a test holds in the structures with this frame."""
-    if test[0] == "whole":
-        return frame.gaps[0] == 0
-    return holds_in(frame.first, test)
+    return _made(kind, step, seen), 0
