@@ -40,6 +40,14 @@ COMPARING = """
 >>> [paper.told(), paper.frame.gaps, paper.group, paper.ranks(), fewest(one, other), fewest(one, one)]
 ['parted', (1, 1), ('p',), (1, 0), 1, None]
 """
+DESK = """
+>>> from unseenrest.desk import Desk
+>>> from unseenrest.shelves import Shelf
+>>> desk = Desk(Shelf(['a']))
+>>> [desk('put far top p ; delete a'), desk('put near extend p a ; delete a'), desk('alike far near'),
+... desk('unseen far near'), desk('range far p'), desk('ends far'), desk('show  far')]
+['done', 'done', 'differ', '1', '0 1', 'p', 'unknown']
+"""
 README = os.path.join(os.path.dirname(os.path.abspath(__file__)), "..", "README.md")
 
 
@@ -67,6 +75,9 @@ class TestExamples(unittest.TestCase):
 
     def test_the_section_on_comparing(self):
         self.check(COMPARING, "comparing")
+
+    def test_the_section_on_the_desk(self):
+        self.check(DESK, "desk")
 
     def test_the_readme(self):
         with open(README, encoding="utf-8") as file:

@@ -9,6 +9,17 @@ def pieces_used(steps, pieces):
     return _pieces_read(steps, pieces, (), ())
 
 
+def uses_in(steps):
+    """The pieces that steps use directly or in steps within them, in the order in which the uses stand."""
+    found = []
+    for step in steps:
+        if step[0] == "use":
+            found = found + [step[1]]
+        else:
+            found = found + uses_in(steps_within(step))
+    return found
+
+
 def size_of(steps, pieces):
     """The number of the plain steps, repeats counted as often as they are done, and how deep these stand."""
     sizes = {}
@@ -28,7 +39,7 @@ def plain_steps(steps, pieces):
 
 def _pieces_read(steps, pieces, within, done):
     """The pieces that are done, with those that steps use; the steps stand within some pieces."""
-    for piece in _uses(steps):
+    for piece in uses_in(steps):
         if piece in within:
             raise Circular(piece)
         if piece not in pieces:
@@ -37,17 +48,6 @@ def _pieces_read(steps, pieces, within, done):
         if piece not in done:
             done = _pieces_read(pieces[piece], pieces, within + (piece,), done) + (piece,)
     return done
-
-
-def _uses(steps):
-    """The pieces that steps use directly or in steps within them, in the order in which the uses stand."""
-    found = []
-    for step in steps:
-        if step[0] == "use":
-            found = found + [step[1]]
-        else:
-            found = found + _uses(steps_within(step))
-    return found
 
 
 def _size(steps, sizes):
