@@ -150,6 +150,20 @@ class TestSay(Base):
         self.assertEqual((shelf.history(), shelf.computed), ((2, 0), 0))
         self.assertTrue(shelf == small_shelf())
 
+    def test_pieces_with_the_words_of_lines(self):
+        words = ["names", "pieces", "undo", "redo", "drop", "show", "range", "alike"]
+        desk = Desk(Shelf(["a"], limit=12))
+        self.check(desk, [(f"put {word} extend p ; use undo", "error UnknownPiece") for word in words if word != "undo"])
+        self.check(desk, [(f"put {word} delete a", "done") for word in words])
+        self.check(desk, [(f"ends {word}", "none") for word in words])
+        self.check(desk, [(f"show {word}", "delete a") for word in words])
+        self.check(desk, [(f"alike {word} {other}", "alike") for word in words for other in words[:3]])
+        self.check(desk, [(f"unseen {word} {other}", "alike") for word in words for other in words[:3]])
+        self.check(desk, [(f"change {word} {other}", "error InvalidText") for word in words for other in words])
+        self.check(desk, [(f"range {word} {other}", "error UnknownName") for word in words for other in words])
+        self.check(desk, [(f"drop {word}", "done") for word in words])
+        self.assertEqual(desk.shelf.history(), (16, 0))
+
     def test_answers_are_kept_by_the_shelf(self):
         shelf = small_shelf()
         desk = Desk(shelf)

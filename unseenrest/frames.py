@@ -1,6 +1,6 @@
 """Frames: all that a script can tell of a structure and of a marked set of its unseen elements."""
 
-from unseenrest.changes import changed
+from unseenrest.changes import changed, extended
 from unseenrest.errors import InvalidFrame, InvalidNumber, InvalidStep, TooMany, UnlikeNames
 from unseenrest.forms import is_single
 from unseenrest.names import is_number, names_shown
@@ -259,7 +259,8 @@ def _bridged(kind, name, seen):
     """A structure with a new element, which is a bridge."""
     key = (name, tuple(kind.names()), tuple(kind.table()))
     if key not in seen:
-        seen[key] = kind + Structure.free([name])
+        # What is a loop of the dual is a bridge.
+        seen[key] = ~extended(~kind, name)
     return seen[key]
 
 
