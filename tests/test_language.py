@@ -174,6 +174,26 @@ class TestLanguage(unittest.TestCase):
             if isinstance(node, ast.Call) and isinstance(node.func, ast.Name) and node.func.id in made:
                 self.assertIn(ast.unparse(node), allowed, name)
 
+    def test_only_class_values_are_read_off_a_class(self):
+        made = {node.name for name, node in self.nodes() if isinstance(node, ast.ClassDef)}
+        for name, node in self.nodes():
+            if isinstance(node, ast.Attribute) and isinstance(node.value, ast.Name) and node.value.id in made:
+                self.assertRegex(node.attr, "^[A-Z]+$", name)
+
+    def test_super_calls_methods_alone(self):
+        for name, node in self.nodes():
+            if isinstance(node, ast.FunctionDef):
+                for inner in ast.walk(node):
+                    if isinstance(inner, ast.Attribute) and ast.unparse(inner.value) == "super()":
+                        self.assertTrue(inner.attr == node.name, name)
+
+    def test_what_stands_in_a_finally(self):
+        for name, node in self.nodes():
+            if isinstance(node, ast.Try):
+                for inner in node.finalbody:
+                    self.assertIsInstance(inner, ast.Assign, name)
+                    self.assertIsInstance(inner.value, ast.Constant, name)
+
     def test_decorators(self):
         for name, node in self.nodes():
             if isinstance(node, ast.ClassDef):
